@@ -1,0 +1,1 @@
+"""Two servers that lend addresses as partners."""
