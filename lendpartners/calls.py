@@ -1,12 +1,12 @@
-"""What each call on a world does and answers, when its numbers are within their ranges.
+"""What each call that may change a world does and answers, when its numbers are within their ranges.
 
 A call answers a list: 0 and what it tells, or a refusal, the document's
 number below 0 alone. Refusals are looked at before anything is changed.
 """
 
-from lendpartners.messages import Asking, Hello
-from lendpartners.rows import NONE, rows_of_nothing, taken_over
-from lendpartners.whole import bag_is_full, next_number, partner_of
+from lendpartners.messages import Asking, Hello, ShutQuestion, Telling
+from lendpartners.rows import NONE, awaits_shut, given, rows_of_nothing, taken_over
+from lendpartners.whole import bag_is_full, is_free, next_number, partner_of, works
 
 LAST_TIME = 100000000000000
 
@@ -127,8 +127,60 @@ def hello(world, numbers):
     return [0]
 
 
+def tell(world, numbers):
+    server = world.servers[numbers[0]]
+    row = server.rows[numbers[1]]
+    if not works(world, server):
+        return [-4]
+    if row.host == NONE and row.holds == 1:
+        return [-5]
+    if bag_is_full(world):
+        return [-3]
+    world.bag.append(Telling(partner_of(numbers[0]), numbers[1], row))
+    return [0]
+
+
+def sweep(world, numbers):
+    server = world.servers[numbers[0]]
+    if not works(world, server):
+        return [-4]
+    before = len(world.bag)
+    for address, row in enumerate(server.rows):
+        if bag_is_full(world):
+            break
+        if awaits_shut(row, world.now):
+            world.bag.append(ShutQuestion(partner_of(numbers[0]), address, row))
+    return [0, len(world.bag) - before]
+
+
+def share(world, numbers):
+    server = world.servers[numbers[0]]
+    if not works(world, server):
+        return [-4]
+    before = len(world.bag)
+    # Each address that is given puts one telling, so the bag tells how many were given.
+    for address in range(world.size - 1, -1, -1):
+        if len(world.bag) - before >= numbers[1] or bag_is_full(world):
+            break
+        row = server.rows[address]
+        if row.holds == 1 and is_free(world, server, address):
+            row = given(row, server.epoch)
+            server.rows[address] = row
+            world.bag.append(Telling(partner_of(numbers[0]), address, row))
+    return [0, len(world.bag) - before]
+
+
+def calm(world, numbers):
+    count = 0
+    while len(world.bag) > 0:
+        delivered(world, 0)
+        count = count + 1
+    return [0, count]
+
+
 CALLS = {
     1: tick, 2: ask, 3: deliver, 4: lose, 5: double, 6: stop, 7: start, 8: wipe, 9: declare, 10: hello,
+    11: tell, 12: sweep, 13: share, 20: calm,
 }
 
 

@@ -55,6 +55,16 @@ def is_kept(row, host):
     return row.host == host and row.shut == 0
 
 
+def awaits_shut(row, now):
+    """Whether what was promised here has ended, and the partner has not yet said that it promises no more."""
+    return row.holds == 1 and row.host != NONE and row.pshut == 0 and row.mine <= now
+
+
+def given(row, epoch):
+    """The row of an address that the partner may bind from now on."""
+    return Row((epoch, row.stamp[1] + 1))
+
+
 def bound(row, epoch, host):
     other = Row((epoch, row.stamp[1] + 1))
     other.holds = 1

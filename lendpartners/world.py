@@ -1,6 +1,7 @@
 """A line of calls on one world, and what they answer."""
 
 from lendpartners.calls import done
+from lendpartners.queries import is_query, told
 from lendpartners.whole import World
 
 BEGIN = 0
@@ -17,6 +18,17 @@ NUMBERS = (
     ("server",),
     ("server",),
     ("server",),
+    ("server", "address"),
+    ("server",),
+    ("server", "m"),
+    ("server", "address"),
+    ("server",),
+    ("k",),
+    ("address",),
+    ("host",),
+    ("server",),
+    (),
+    (),
 )
 
 RANGES = {
@@ -27,6 +39,7 @@ RANGES = {
     "server": (0, 1),
     "host": (0, 281474976710655),
     "length": (1, 1000000000),
+    "m": (0, 4096),
 }
 
 
@@ -40,6 +53,8 @@ class Line:
 def range_of(world, name):
     if name == "want":
         return (-1, world.size - 1)
+    if name == "address":
+        return (0, world.size - 1)
     if name == "k":
         return (0, len(world.bag) - 1)
     return RANGES[name]
@@ -72,6 +87,8 @@ def answer(line, place, numbers):
     if place == BEGIN:
         line.world = World(numbers[0], numbers[1], numbers[2])
         return [0]
+    if is_query(place):
+        return told(line.world, place, numbers)
     return done(line.world, place, numbers)
 
 
@@ -84,12 +101,12 @@ def end_of_call(calls, begin):
 
 def answers(calls):
     line = Line()
-    told = []
+    gathered = []
     at = 0
     while at < len(calls):
         end = end_of_call(calls, at)
         answered = answer(line, calls[at], calls[at + 1:end])
-        told.append(len(answered))
-        told.extend(answered)
+        gathered.append(len(answered))
+        gathered.extend(answered)
         at = end
-    return told
+    return gathered

@@ -5,7 +5,10 @@ import unittest
 from lendpartners.rows import NONE, Row
 from lendpartners.world import Line, answer, answers
 
-BEGIN, TICK, ASK, DELIVER, LOSE, DOUBLE, STOP, START, WIPE, DECLARE, HELLO = range(11)
+(
+    BEGIN, TICK, ASK, DELIVER, LOSE, DOUBLE, STOP, START, WIPE, DECLARE, HELLO,
+    TELL, SWEEP, SHARE, ROW, SERVER, PEEK, WHO, HELD, COUNT, CALM, STATE,
+) = range(22)
 
 HUGE = 10 ** 18
 LAST_HOST = 281474976710655
@@ -111,6 +114,16 @@ class PlayTest(unittest.TestCase):
         before = snapshot(play.line)
         self.assertEqual(play.do(place, *numbers), [refusal], (place, numbers))
         self.assertEqual(snapshot(play.line), before, (place, numbers))
+
+    def assert_nothing_else_changes(self, play, call, *apart):
+        """The call changes nothing of the world but the values named; gives back what it answers."""
+        before = self.world_without(play, apart)
+        answered = play.do(*call)
+        self.assertEqual(self.world_without(play, apart), before, call)
+        return answered
+
+    def world_without(self, play, apart):
+        return snapshot({name: value for name, value in vars(play.world).items() if name not in apart})
 
     def assert_nothing_comes(self, play, message):
         """The delivered message puts nothing and changes nothing."""

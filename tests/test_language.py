@@ -27,6 +27,7 @@ METHODS = set(
     "setdefault split splitlines startswith strip update upper values zfill bit_length".split())
 NOT_AS_VALUES = set(
     "items keys values pop update append clear extend insert remove reverse setdefault sort args encode format".split())
+WALKED = ("zip", "enumerate", "reversed", "range", "items", "keys", "values")
 WORDS = re.compile(
     r"\b(type|typing|typing_extensions|enum|Enum|IntEnum|StrEnum|Flag|IntFlag|Generic|Protocol|ABC|ABCMeta|namedtuple|"
     r"NamedTuple|TypedDict|TYPE_CHECKING|abstractmethod)\b|dataclass|overload|contextmanager")
@@ -143,6 +144,33 @@ class Language(unittest.TestCase):
         for path, node in nodes(ast.Call):
             if isinstance(node.func, ast.Attribute):
                 self.assertIn(node.func.attr, METHODS | methods, (path.name, node.lineno))
+
+    def test_what_is_walked_is_walked_on_the_spot(self):
+        within = ("list", "tuple", "dict", "sorted", "sum", "any", "all", "enumerate", "zip", "min", "max")
+        for path, tree in trees():
+            spots = []
+            for node in ast.walk(tree):
+                if isinstance(node, (ast.For, ast.comprehension)):
+                    spots.append(node.iter)
+                if isinstance(node, ast.Call) and isinstance(node.func, ast.Name) and node.func.id in within:
+                    spots.extend(node.args[:1])
+            for node in ast.walk(tree):
+                if isinstance(node, ast.Call) and self.name_called(node) in WALKED:
+                    self.assertIn(node, spots, (path.name, node.lineno))
+
+    def name_called(self, node):
+        return node.func.id if isinstance(node.func, ast.Name) else getattr(node.func, "attr", "")
+
+    def test_what_stands_at_the_top_is_only_read(self):
+        for path, tree in trees():
+            kept = {node.targets[0].id for node in tree.body
+                    if isinstance(node, ast.Assign) and isinstance(node.value, (ast.List, ast.Dict))}
+            read = [node.value for node in ast.walk(tree)
+                    if isinstance(node, ast.Subscript) and isinstance(node.ctx, ast.Load)]
+            read += [node.comparators[0] for node in ast.walk(tree) if isinstance(node, ast.Compare)]
+            for node in ast.walk(tree):
+                if isinstance(node, ast.Name) and isinstance(node.ctx, ast.Load) and node.id in kept:
+                    self.assertIn(node, read, (path.name, node.lineno))
 
     def test_is_stands_beside_none_alone(self):
         for path, node in nodes(ast.Compare):
